@@ -1,0 +1,1 @@
+"""Views of one list, kept up to date in turns."""
