@@ -2,9 +2,11 @@
 
 from listviews.errors import InvalidInteger
 from listviews.errors import InvalidName
+from listviews.errors import InvalidRows
 from listviews.errors import InvalidValue
 from listviews.values import is_integer
 from listviews.values import is_name
+from listviews.values import is_rows
 from listviews.values import is_value
 
 
@@ -30,3 +32,9 @@ def need_record(key, value):
     """Raise InvalidName or InvalidValue unless key and value make a record."""
     need_name(key)
     need_value(value)
+
+
+def need_rows(value):
+    """Raise InvalidRows unless the value is a list of rows."""
+    if not is_rows(value):
+        raise InvalidRows(value)

@@ -43,9 +43,14 @@ def is_row(value):
 
 def is_rows(value):
     """Return True if the value is a list of rows."""
-    if not isinstance(value, (list, tuple)) or len(value) > MOST_ROWS:
+    if not is_list(value, MOST_ROWS):
         return False
     return all([is_row(row) for row in value]) and len(set(value)) == len(value)
+
+
+def is_list(value, most):
+    """Return True if the value is a list, or a tuple in its place, with at most so many items."""
+    return isinstance(value, (list, tuple)) and len(value) <= most
 
 
 def is_answer(value):

@@ -1,7 +1,11 @@
-"""What several tests need: values of all kinds, and a check of exceptions."""
+"""What several tests need: values of all kinds, rows, and a check of exceptions."""
 
+from listviews.changes import Change
 from listviews.conditions import Between
 from listviews.conditions import Named
+from listviews.orders import By
+from listviews.orders import Plus
+from listviews.records import Records
 
 
 def a_function(key, value):
@@ -29,6 +33,11 @@ def any_values():
         a_function,
         Between("age"),
         Named(),
+        By("age"),
+        Plus("age", 1),
+        Change(2, [1, 0]),
+        Records([("ann", {"age": 30})]),
+        [By("age"), Change(1, [])],
         [],
         (),
         {},
@@ -52,13 +61,25 @@ def any_values():
     ]
 
 
+def rows_of(count):
+    """A list of so many different rows, names and headers."""
+    names = [one + other for one in "mnopqrst" for other in "abcdefghijklm"][:count]
+    return [("group", (at, -at)) if at % 3 == 2 else name for at, name in enumerate(names)]
+
+
+def other_rows_of(count):
+    """A list of so many different rows, none of which rows_of has."""
+    names = [one + other for one in "abcdefgh" for other in "abcdefghijklm"][:count]
+    return [("group", (at,)) if at % 5 == 2 else name for at, name in enumerate(names)]
+
+
 def assert_raises(case, error, field, passed, call, *args, **named):
     """Check that a call raises just this error, with the very object in its field."""
     with case.assertRaises(error) as caught:
         call(*args, **named)
     case.assertIs(error, caught.exception.__class__)
     held = getattr(caught.exception, field)
-    if field == "count":
+    if field in ("count", "index"):
         case.assertEqual((passed, int), (held, held.__class__))
     else:
         case.assertIs(passed, held)

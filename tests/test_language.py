@@ -46,6 +46,10 @@ BANNED = (
     ast.GeneratorExp,
 )  # fmt: skip
 FUNCTIONS = (ast.FunctionDef, ast.Lambda)
+# What may change objects, and so is neither an operator in the sense of L5 nor called by one.
+CHANGING = set("init call enter exit iter setitem iadd isub imul ifloordiv imod ipow iand ior ixor".split())
+CHANGING |= {"ilshift", "irshift"}
+MODIFYING = set("append insert pop setdefault update sort reverse remove clear extend add discard".split())
 
 
 def nodes(kinds, trees=None):
@@ -94,6 +98,42 @@ def methods_of(tree):
 
 def is_property(method):
     return any(getattr(one, "id", "") == "property" or getattr(one, "attr", "") == "setter" for one in method.decorator_list)
+
+
+def functions_by_name():
+    """All functions and methods of the package by their names; a class stands for its __init__."""
+    found = {}
+    for tree in TREES.values():
+        for node in ast.walk(tree):
+            if isinstance(node, ast.FunctionDef):
+                found.setdefault(node.name, []).append(node)
+            if isinstance(node, ast.ClassDef):
+                found.setdefault(node.name, []).extend(m for m in node.body if getattr(m, "name", "") == "__init__")
+    return found
+
+
+def called_by(function):
+    """The names of all that a function calls."""
+    calls = [node.func for node in ast.walk(function) if isinstance(node, ast.Call)]
+    return {getattr(node, "id", None) or getattr(node, "attr", None) for node in calls}
+
+
+def reached_by_operators():
+    """All functions that operators, `==`, `str`, `len` and properties lead to."""
+    methods = [method for tree in TREES.values() for _, method in methods_of(tree)]
+    doubles = [m for m in methods if m.name.startswith("__") and m.name.strip("_") not in CHANGING]
+    found, known = doubles + [m for m in methods if is_property(m) and len(m.args.args) == 1], functions_by_name()
+    for function in found:
+        for name in called_by(function):
+            found += [one for one in known.get(name, []) if one not in found]
+    return found
+
+
+def own_lists(function):
+    """The names of the lists that a function creates itself, as L5 asks for."""
+    made = [n for n in ast.walk(function) if isinstance(n, ast.Assign) and isinstance(n.targets[0], ast.Name)]
+    kinds = (ast.List, ast.ListComp)
+    return {n.targets[0].id for n in made if isinstance(n.value, kinds) or called_name(n.value) in ("list", "sorted")}
 
 
 def plain(node):
@@ -221,6 +261,8 @@ class LanguageTest(unittest.TestCase):
                 self.assertFalse(given, (stem, node.lineno))
         places = {id(one) for _, n in nodes((ast.For, ast.comprehension)) for one in [n.iter]}
         places |= {id(one) for _, n in nodes(ast.Call) if called_name(n) in ITERATING for one in n.args}
+        turned = [n.args[0] for _, n in nodes(ast.Call) if called_name(n) == "reversed"]
+        places |= {id(one) for one in turned if called_name(one) == "range"}
         self.check([(s, n) for s, n in nodes(ast.Call) if called_name(n) in AT_ONCE and id(n) not in places])
 
     def test_errors(self):  # L19
@@ -238,6 +280,42 @@ class LanguageTest(unittest.TestCase):
         places |= {id(one) for _, n in nodes(ast.Compare) for one in n.comparators}
         made = [(s, n) for s, n in nodes(ast.Call) if called_name(n) == "set"] + nodes((ast.Set, ast.SetComp))
         self.check([(s, n) for s, n in made if id(n) not in places])
+
+    def test_operators_change_nothing(self):  # L5 Operators
+        for function in reached_by_operators():
+            for node in ast.walk(function):
+                place = (function.name, getattr(node, "lineno", 0))
+                self.assertNotIsInstance(node, (ast.AugAssign, ast.Delete), place)
+                if isinstance(getattr(node, "ctx", None), ast.Store) and not isinstance(node, ast.Name):
+                    self.assertIsInstance(node, (ast.Attribute, ast.Tuple), place)
+                if isinstance(node, ast.Attribute) and isinstance(node.ctx, ast.Store):
+                    self.assertEqual(("__init__", "self"), (function.name, node.value.id), place)
+                if isinstance(node, ast.Attribute) and node.attr in MODIFYING:
+                    self.assertIn(getattr(node.value, "id", None), own_lists(function), place)
+            given = {one.arg for one in [*function.args.args, *function.args.kwonlyargs]}
+            self.assertFalse(given & {called_name(n) for n in ast.walk(function)}, function.name)
+
+    def test_generators(self):  # L23
+        yields = (ast.Yield, ast.YieldFrom)
+        makers = {f.name for _, f in nodes(ast.FunctionDef) if any(isinstance(n, yields) for n in ast.walk(f))}
+        places = {id(n.iter) for _, n in nodes((ast.For, ast.comprehension))}
+        places |= {id(one) for _, n in nodes(ast.Call) if called_name(n) in ITERATING - {"len"} for one in n.args}
+        calls = [(s, n) for s, n in nodes(ast.Call) if called_name(n) in makers]
+        self.check([(s, n) for s, n in calls if id(n) not in places])
+        heads = {id(n.func) for _, n in calls}
+        self.check([(s, n) for s, n in nodes(ast.Name) if n.id in makers and id(n) not in heads])
+        self.assertFalse(makers & METHODS)
+        self.assertFalse([name for name in makers if len(functions_by_name()[name]) > 1 or name.startswith("__")])
+
+    def test_iteration(self):  # L5
+        for stem, tree in TREES.items():
+            for kind in [node for node in tree.body if isinstance(node, ast.ClassDef)]:
+                names = {getattr(row, "name", None): row for row in kind.body}
+                if "__getitem__" in names:
+                    self.assertIn("__iter__", names, (stem, kind.name))
+                if "__iter__" in names:
+                    (row,) = names["__iter__"].body
+                    self.assertEqual("iter", called_name(row.value), (stem, kind.name))
 
     def test_double_underscore_methods(self):  # L28
         for stem, tree in TREES.items():
