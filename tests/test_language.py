@@ -83,7 +83,8 @@ def local_names(tree):
             every = [*given.posonlyargs, *given.args, *given.kwonlyargs, given.vararg, given.kwarg]
             found |= {one.arg for one in every if one}
             found |= {one.id for one in ast.walk(node) if isinstance(one, ast.Name) and isinstance(one.ctx, ast.Store)}
-            inner = [one for row in getattr(node, "body", []) if isinstance(node, ast.FunctionDef) for one in ast.walk(row)]
+            rows = node.body if isinstance(node, ast.FunctionDef) else []
+            inner = [one for row in rows for one in ast.walk(row)]
             found |= {one.name for one in inner if isinstance(one, ast.FunctionDef)}
         if isinstance(node, ast.ExceptHandler) and node.name:
             found.add(node.name)
@@ -100,15 +101,26 @@ def is_property(method):
     return any(getattr(one, "id", "") == "property" or getattr(one, "attr", "") == "setter" for one in method.decorator_list)
 
 
+def static_methods():
+    marked = [(m, one) for tree in TREES.values() for _, m in methods_of(tree) for one in m.decorator_list]
+    return {method.name for method, one in marked if getattr(one, "id", "") == "staticmethod"}
+
+
 def functions_by_name():
-    """All functions and methods of the package by their names; a class stands for its __init__."""
+    """All functions and methods of the package by their names; a class stands for its __init__.
+
+    What is called as `__init__` is that of a class with others under it.
+    """
     found = {}
+    bases = {base.id for _, kind in nodes(ast.ClassDef) for base in kind.bases}
     for tree in TREES.values():
         for node in ast.walk(tree):
-            if isinstance(node, ast.FunctionDef):
+            if isinstance(node, ast.FunctionDef) and node.name != "__init__":
                 found.setdefault(node.name, []).append(node)
             if isinstance(node, ast.ClassDef):
-                found.setdefault(node.name, []).extend(m for m in node.body if getattr(m, "name", "") == "__init__")
+                makers = [row for row in node.body if getattr(row, "name", "") == "__init__"]
+                found.setdefault(node.name, []).extend(makers)
+                found.setdefault("__init__", []).extend(makers if node.name in bases else [])
     return found
 
 
@@ -129,6 +141,11 @@ def reached_by_operators():
     return found
 
 
+def exit_rows():
+    """The rows of all methods that end a block of a `with` statement."""
+    return [(s, m.body) for s, tree in TREES.items() for _, m in methods_of(tree) if m.name == "__exit__"]
+
+
 def own_lists(function):
     """The names of the lists that a function creates itself, as L5 asks for."""
     made = [n for n in ast.walk(function) if isinstance(n, ast.Assign) and isinstance(n.targets[0], ast.Name)]
@@ -136,8 +153,12 @@ def own_lists(function):
     return {n.targets[0].id for n in made if isinstance(n.value, kinds) or called_name(n.value) in ("list", "sorted")}
 
 
-def plain(node):
-    """Tell whether an expression is a plain value, or a list, tuple or dict of plain values."""
+def plain(node, functions):
+    """Tell whether an expression is a plain value, or a list, tuple or dict of plain values and functions."""
+    if isinstance(node, ast.Dict):
+        return all(plain(one, functions) for one in [*node.keys, *node.values])
+    if isinstance(node, ast.Name):
+        return node.id in functions
     try:
         ast.literal_eval(node)
     except ValueError:
@@ -197,10 +218,12 @@ class LanguageTest(unittest.TestCase):
     def test_module_level(self):  # L3
         for stem, tree in TREES.items():
             self.assertTrue(ast.get_docstring(tree), stem)
-            for row in tree.body[1:]:
+            for at, row in enumerate(tree.body[1:], start=1):
                 self.assertIsInstance(row, (ast.ImportFrom, ast.FunctionDef, ast.ClassDef, ast.Assign))
                 if isinstance(row, ast.Assign):
-                    self.assertTrue(len(row.targets) == 1 and isinstance(row.targets[0], ast.Name) and plain(row.value))
+                    above = {one.name for one in tree.body[:at] if isinstance(one, ast.FunctionDef)}
+                    self.assertTrue(len(row.targets) == 1 and isinstance(row.targets[0], ast.Name))
+                    self.assertTrue(plain(row.value, above), (stem, row.lineno))
 
     def test_names(self):  # L8, L12, L15, L17
         for stem, tree in TREES.items():
@@ -212,7 +235,7 @@ class LanguageTest(unittest.TestCase):
             for name in set(top) | local_names(tree):
                 self.assertRegex(name, r"\A[A-Za-z][A-Za-z0-9_]*\Z")
                 self.assertFalse(hasattr(builtins, name) or name in NEVER | NOT_AS_NAMES, (stem, name))
-            known = BUILTINS | set(top) | local_names(tree)
+            known = BUILTINS | set(top) | local_names(tree) | {method.name for _, method in methods_of(tree) if is_property(method)}
             self.check([(stem, n) for _, n in nodes(ast.Name, {stem: tree}) if n.id not in known])
 
     def test_statements_and_expressions(self):  # L4, L6, L7, L19, L20, L21
@@ -237,6 +260,9 @@ class LanguageTest(unittest.TestCase):
         properties = {m.name for tree in TREES.values() for _, m in methods_of(tree) if is_property(m)}
         stored = {node.attr for _, node in nodes(ast.Attribute) if isinstance(node.ctx, ast.Store)}
         self.assertFalse(stored & methods)
+        plain = {m.name for tree in TREES.values() for _, m in methods_of(tree) if not is_property(m)}
+        self.assertFalse(properties & (plain | METHODS))
+        self.assertFalse(static_methods() & (properties | (plain - static_methods())))
         self.assertFalse(stored & ((METHODS | NEVER) - {"count", "index", "title"}))
         for stem, tree in TREES.items():
             for kind, method in methods_of(tree):
@@ -294,6 +320,25 @@ class LanguageTest(unittest.TestCase):
                     self.assertIn(getattr(node.value, "id", None), own_lists(function), place)
             given = {one.arg for one in [*function.args.args, *function.args.kwonlyargs]}
             self.assertFalse(given & {called_name(n) for n in ast.walk(function)}, function.name)
+
+    def test_finally_and_exit(self):  # L6
+        """Only plain names, attributes and literals are assigned to names and attributes there."""
+        simple = (ast.Name, ast.Attribute, ast.Constant)
+        for stem, rows in [(s, n.finalbody) for s, n in nodes(ast.Try)] + exit_rows():
+            for row in rows:
+                self.assertIsInstance(row, ast.Assign, (stem, row.lineno))
+                self.assertIsInstance(row.value, simple, (stem, row.lineno))
+                self.assertTrue(all(isinstance(one, (ast.Name, ast.Attribute)) for one in row.targets))
+
+    def test_dicts_that_stand_at_module_level(self):  # L15
+        """They are read by an index and by `in` alone."""
+        rows = [row for tree in TREES.values() for row in tree.body if isinstance(row, ast.Assign)]
+        names = {row.targets[0].id for row in rows if isinstance(row.value, ast.Dict)}
+        self.assertTrue(names)
+        places = {id(n.value) for _, n in nodes(ast.Subscript) if isinstance(n.ctx, ast.Load)}
+        places |= {id(one) for _, n in nodes(ast.Compare) for one in n.comparators}
+        loads = [(s, n) for s, n in nodes(ast.Name) if n.id in names and isinstance(n.ctx, ast.Load)]
+        self.check([(s, n) for s, n in loads if id(n) not in places])
 
     def test_generators(self):  # L23
         yields = (ast.Yield, ast.YieldFrom)
