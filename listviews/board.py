@@ -72,13 +72,10 @@ class Board:
 
     def __eq__(self, other):
         return (
-            isinstance(other, Board) and self.records_now == other.records_now and self.outlines() == other.outlines()
+            isinstance(other, Board)
+            and self.records_now == other.records_now
+            and outlines_of(self) == outlines_of(other)
         )
-
-    def outlines(self):
-        """Return what all views were made of, in their order."""
-        views = list(self.open_views.values())
-        return [(view.own_name, view.own_kind, view.own_on, view.own_setting) for view in views]
 
     def add(self, key, value, *, index=None):
         """Put a record in, at this index or as the last one."""
@@ -318,4 +315,11 @@ class Board:
         self.draft = draft
         self.records_now = draft.new_records
         for name, setting in draft.new_settings.items():
-            self.open_views[name].own_setting = setting
+            view = self.open_views[name]
+            view.own_setting = setting
+
+
+def outlines_of(board):
+    """Return what all views of a board were made of, in their order."""
+    views = list(board.open_views.values())
+    return [(view.own_name, view.own_kind, view.own_on, view.own_setting) for view in views]

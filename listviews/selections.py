@@ -97,7 +97,6 @@ class Selection:
     def extend(self, row):
         """Select the rows from the focus to this row."""
         self.followed.need_idle()
-        self.need_row_here(row)
         if self.focused_row is None or not self.is_multiple:
             self.select(row)
         else:
@@ -169,7 +168,7 @@ class Anchor:
 
 def need_gravity(value):
     """Raise InvalidName unless the value is one of the two gravities."""
-    if not isinstance(value, str) or value not in ("left", "right"):
+    if value not in ("left", "right"):
         raise InvalidName(value)
 
 

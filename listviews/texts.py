@@ -71,7 +71,7 @@ def count_of_records(lines):
 def with_record(records, line, at):
     """Return the records and the one that the line with this index states."""
     words = split_words(line)
-    if words is None or len(words) < 3:
+    if words is None:
         raise InvalidLine(at)
     try:
         return records.inserted(words[1], read_value(words[2:]))

@@ -217,7 +217,7 @@ class ReadingTest(unittest.TestCase):
                 view old filtered -- age 1..2/view old filtered - age 01..2/view old filtered - age 2..1
                 view old filtered - (age 1..2)/view old filtered - age -size/view old filtered - plus age 1
                 view old filtered - 1 2/View old filtered - age 1..2/view old filtered - age 1..1000/view old Filtered - []
-                view old list - age 1..2/view oldoldold filtered - age 1..2/view old filtered - age 1..2 x""",
+                view old list - age/view old Ordered - age/view old first - age 1..2/view oldoldold filtered - age 1..2/view old filtered - age 1..2 x""",
             "view up ordered old age -size": """view up ordered old/view up ordered old a b c d/view up ordered old --age
                 view up ordered old Age/view up ordered old age 1..2/view up ordered old plus age 1/view old ordered - age
                 view up ordered old 1 2/view up ordered up age/view up ordered old -""",

@@ -149,6 +149,16 @@ class FollowersTest(unittest.TestCase):
         board.remove("ann")
         self.assertEqual([(0, ["ann"], ["bob"])] * 2 + [(0, ["ann", "bob"], ["bob", "eve"])] * 2, notes)
 
+    def test_whoever_follows_behind_a_turn_hears_of_the_next_one(self):
+        board, notes = some(), []
+        view = board.ordered("one", By("age"))
+        late = Follower(notes, 1)
+        view.follow(Follower(notes, 0, lambda: view.follow(late)))
+        board.remove("ann")
+        self.assertEqual([None], notes)
+        board.remove("bob")
+        self.assertEqual([None, None, (1, ["bob", "eve"], ["eve"])], notes)
+
     def test_closed_views_and_others_of_their_name(self):
         board, notes = some(), []
         view = board.ordered("one", By("age"))
