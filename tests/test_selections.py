@@ -383,11 +383,13 @@ class BusyTest(unittest.TestCase):
         closed = board.window("gone", 0, 2)
         late = Selection(closed, multiple=False)
         board.close("gone")
-        selection.select("ann")
+        several = Selection(view)
+        for one in (selection, several):
+            one.select("ann")
         raised = []
 
         def asking(key, value):
-            for one in (selection, late):
+            for one in (selection, late, several):
                 calls = [lambda: one.select(None), lambda: one.extend(None), one.clear, one.everything]
                 calls += [lambda: one.focus_on("none"), lambda: put_focus(one, "none"), lambda: one.select("ann")]
                 calls += [lambda sign=sign: changed(one, sign, None) for sign in SIGNS]
@@ -401,7 +403,7 @@ class BusyTest(unittest.TestCase):
 
         board.ordered("one", asking)
         board.add("eve", {"age": 1}, index=0)
-        self.assertEqual(5 * 20, len(raised))
+        self.assertEqual(5 * 30, len(raised))
         self.assertEqual([(1, 2)], selection.ranges())
         self.assertEqual((0, None), (len(late), late.focus))
         # Behind all this nothing is busy.
